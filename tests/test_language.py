@@ -1,0 +1,145 @@
+"""What of LANGUAGE.md and of the interface can be read off the files of the package."""
+
+import ast
+import builtins
+import pathlib
+import re
+import unittest
+
+ROOT = pathlib.Path(__file__).resolve().parent.parent
+PACKAGE = ROOT / "vatmatch"
+
+INTERFACE = {
+    "errors": (
+        "DyeError NoNumber NoMany NoShade NoStuffs NoBook Fails NoHour NoName NoDeed NoBack NoShelf NoMeasures NoStep"
+        " TooLittle NoWeights NoPrices NoVat NoBrim NoCloths NoRow"
+    ),
+    "fractions": "is_fraction fraction plus minus times over below",
+    "shades": "is_parts is_shade far",
+}
+
+BARRED_WORDS = (
+    "type typing typing_extensions enum Enum IntEnum StrEnum Flag IntFlag Generic Protocol ABC ABCMeta namedtuple"
+    " NamedTuple TypedDict TYPE_CHECKING abstractmethod"
+).split()
+
+BUILTINS = (
+    "len range enumerate zip min max sum abs sorted reversed int str bool bytes list tuple dict set frozenset isinstance"
+    " ord repr any all divmod iter next super property staticmethod classmethod Exception ValueError TypeError KeyError"
+    " IndexError LookupError ZeroDivisionError ArithmeticError OverflowError RuntimeError NotImplementedError"
+    " AttributeError StopIteration NotImplemented"
+).split()
+
+OTHER_NODES = (
+    ast.Div, ast.MatMult, ast.Global, ast.AsyncFunctionDef, ast.AsyncFor, ast.AsyncWith, ast.Await, ast.Import,
+)
+
+
+def files():
+    return sorted(PACKAGE.rglob("*.py"))
+
+
+def trees():
+    return [(path, ast.parse(path.read_text(encoding="utf-8"))) for path in files()]
+
+
+def bound_names(tree):
+    """Every name that a file gives a meaning."""
+    for node in ast.walk(tree):
+        if isinstance(node, ast.Name) and not isinstance(node.ctx, ast.Load):
+            yield node.id
+        elif isinstance(node, (ast.FunctionDef, ast.ClassDef)):
+            yield node.name
+        elif isinstance(node, ast.arg):
+            yield node.arg
+        elif isinstance(node, ast.alias):
+            yield node.asname or node.name
+
+
+class Files(unittest.TestCase):
+    def test_nothing_but_python_files(self):
+        for path in PACKAGE.rglob("*"):
+            if "__pycache__" not in path.parts:
+                self.assertTrue(path.is_dir() or re.fullmatch(r"[a-z0-9_]+\.py", path.name), path)
+        self.assertIn(PACKAGE / "__init__.py", files())
+
+    def test_sizes_and_signs(self):
+        for path in files():
+            text = path.read_text(encoding="utf-8")
+            self.assertRegex(text, r"\A[ -~\n]*\Z", path)
+            rows = text.splitlines()
+            self.assertLess(len(rows), 400, path)
+            self.assertLessEqual(max(map(len, rows)), 120, path)
+
+    def test_functions_are_short(self):
+        for path, tree in trees():
+            for node in ast.walk(tree):
+                if isinstance(node, ast.FunctionDef):
+                    self.assertLessEqual(node.end_lineno - node.lineno + 1, 40, (path, node.name))
+
+    def test_barred_words(self):
+        for path in files():
+            words = re.findall(r"\w+", path.read_text(encoding="utf-8"))
+            self.assertEqual([word for word in words if word in BARRED_WORDS], [], path)
+            for word in ("dataclass", "overload", "contextmanager"):
+                self.assertNotIn(word, path.read_text(encoding="utf-8"), path)
+
+
+class Code(unittest.TestCase):
+    def test_imports_are_of_the_package_and_of_the_defining_file(self):
+        for path, tree in trees():
+            for node in ast.walk(tree):
+                if isinstance(node, ast.ImportFrom):
+                    self.assertIn(node, tree.body, path)
+                    self.assertEqual(node.level, 0, path)
+                    self.assertRegex(node.module, r"\Avatmatch\.\w+\Z", path)
+                    source = ast.parse((ROOT / (node.module.replace(".", "/") + ".py")).read_text(encoding="utf-8"))
+                    defined = [part.name for part in source.body if isinstance(part, (ast.FunctionDef, ast.ClassDef))]
+                    defined += [t.id for part in source.body if isinstance(part, ast.Assign) for t in part.targets]
+                    for alias in node.names:
+                        self.assertIn(alias.name, defined, path)
+
+    def test_only_allowed_statements_values_and_builtins(self):
+        known = set(BUILTINS)
+        for path, tree in trees():
+            names = known | set(bound_names(tree))
+            for node in ast.walk(tree):
+                self.assertNotIsInstance(node, OTHER_NODES, (path, getattr(node, "lineno", 0)))
+                if isinstance(node, ast.Constant):
+                    self.assertNotIsInstance(node.value, (float, complex), (path, node.lineno))
+                if isinstance(node, ast.Name) and isinstance(node.ctx, ast.Load):
+                    self.assertIn(node.id, names, (path, node.lineno))
+
+    def test_names_are_plain_and_no_builtins(self):
+        for path, tree in trees():
+            for name in bound_names(tree):
+                self.assertRegex(name, r"\A([A-Za-z][A-Za-z0-9_]*|__\w+__)\Z", path)
+                if not name.startswith("__"):
+                    self.assertNotIn(name, dir(builtins), path)
+
+    def test_names_at_module_level_are_bound_once(self):
+        for path, tree in trees():
+            names = []
+            for node in tree.body:
+                if isinstance(node, (ast.FunctionDef, ast.ClassDef)):
+                    names.append(node.name)
+                elif isinstance(node, ast.ImportFrom):
+                    names += [alias.name for alias in node.names]
+                elif isinstance(node, ast.Assign):
+                    names += [target.id for target in node.targets]
+                else:
+                    self.assertIsInstance(node, ast.Expr, path)
+            self.assertEqual(len(names), len(set(names)), path)
+
+
+class Interface(unittest.TestCase):
+    def test_each_name_is_defined_in_its_file(self):
+        for module, names in INTERFACE.items():
+            tree = ast.parse((PACKAGE / (module + ".py")).read_text(encoding="utf-8"))
+            defined = [node.name for node in tree.body if isinstance(node, (ast.FunctionDef, ast.ClassDef))]
+            for name in names.split():
+                self.assertIn(name, defined)
+
+
+if __name__ == "__main__":
+    unittest.main()

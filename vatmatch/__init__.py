@@ -1,0 +1,1 @@
+"""Vatmatch: shades mixed from few stocks, each measure of stuff traced."""
