@@ -16,6 +16,9 @@ INTERFACE = {
     ),
     "fractions": "is_fraction fraction plus minus times over below",
     "shades": "is_parts is_shade far",
+    "books": "is_deed is_book",
+    "walks": "fails_at stands_at",
+    "tracing": "stuffs_of mix_of where_is shelf_at",
 }
 
 BARRED_WORDS = (
@@ -28,6 +31,12 @@ BUILTINS = (
     " ord repr any all divmod iter next super property staticmethod classmethod Exception ValueError TypeError KeyError"
     " IndexError LookupError ZeroDivisionError ArithmeticError OverflowError RuntimeError NotImplementedError"
     " AttributeError StopIteration NotImplemented"
+).split()
+
+METHODS = (
+    "append clear copy count endswith extend find get index insert isalnum isalpha isdigit islower isspace isupper items"
+    " join keys ljust lower lstrip partition pop remove replace reverse rfind rjust rpartition rsplit rstrip setdefault"
+    " split splitlines startswith strip update upper values zfill bit_length"
 ).split()
 
 OTHER_NODES = (
@@ -130,6 +139,58 @@ class Code(unittest.TestCase):
                 else:
                     self.assertIsInstance(node, ast.Expr, path)
             self.assertEqual(len(names), len(set(names)), path)
+
+
+    def test_is_stands_with_none_and_truths_alone(self):
+        for path, tree in trees():
+            for node in ast.walk(tree):
+                if isinstance(node, ast.Compare):
+                    for sign, other in zip(node.ops, node.comparators):
+                        if isinstance(sign, (ast.Is, ast.IsNot)):
+                            self.assertIsInstance(other, ast.Constant, (path, node.lineno))
+                            self.assertIn(other.value, (None, True, False), (path, node.lineno))
+
+    def test_names_of_parameters_are_those_of_no_import_class_or_function(self):
+        for path, tree in trees():
+            names = [alias.name for node in tree.body if isinstance(node, ast.ImportFrom) for alias in node.names]
+            names += [node.name for node in tree.body if isinstance(node, (ast.FunctionDef, ast.ClassDef))]
+            for node in ast.walk(tree):
+                if isinstance(node, ast.arg):
+                    self.assertNotIn(node.arg, names, (path, node.lineno))
+                if isinstance(node, ast.Name) and not isinstance(node.ctx, ast.Load):
+                    self.assertNotIn(node.id, names, (path, node.lineno))
+
+
+def methods_and_attributes():
+    """The names of all methods, and of all attributes that are assigned, of the whole package."""
+    methods, attributes = set(), set()
+    for path, tree in trees():
+        for node in ast.walk(tree):
+            if isinstance(node, ast.ClassDef):
+                methods |= {part.name for part in node.body if isinstance(part, ast.FunctionDef)}
+            if isinstance(node, ast.Attribute) and not isinstance(node.ctx, ast.Load):
+                attributes.add(node.attr)
+    return methods, attributes
+
+
+class Objects(unittest.TestCase):
+    def test_no_name_is_a_method_and_an_attribute(self):
+        methods, attributes = methods_and_attributes()
+        self.assertEqual(methods & attributes, set())
+
+    def test_own_names_are_no_methods_of_builtin_values(self):
+        methods, attributes = methods_and_attributes()
+        for kind in (str, int, list, dict, set, bytes, tuple):
+            self.assertEqual({name for name in methods | attributes if name in dir(kind) and name != "__init__"}, set())
+
+    def test_what_is_called_or_read_is_there(self):
+        methods, attributes = methods_and_attributes()
+        for path, tree in trees():
+            called = {id(node.func) for node in ast.walk(tree) if isinstance(node, ast.Call)}
+            for node in ast.walk(tree):
+                if isinstance(node, ast.Attribute) and isinstance(node.ctx, ast.Load):
+                    known = methods | set(METHODS) if id(node) in called else attributes
+                    self.assertIn(node.attr, known, (path, node.lineno))
 
 
 class Interface(unittest.TestCase):

@@ -1,7 +1,9 @@
-"""Names, parts, shades and stuffs, and how far stuffs are from a shade."""
+"""Names, measures, parts, shades and stuffs, and how far stuffs are from a shade."""
 
 from vatmatch.errors import NoMany, NoShade, NoStuffs
 from vatmatch.fractions import NOUGHT, below, greater, is_fraction, is_whole, minus, times, total
+
+MOST_MEASURES = 9999
 
 
 def is_name(thing):
@@ -9,6 +11,11 @@ def is_name(thing):
     if not isinstance(thing, str) or not 1 <= len(thing) <= 6:
         return False
     return all("a" <= sign <= "z" for sign in thing)
+
+
+def is_measures(thing):
+    """Whether this, of any kind, is a number M of measures."""
+    return is_whole(thing) and 1 <= thing <= MOST_MEASURES
 
 
 def is_many(thing):
@@ -57,6 +64,12 @@ def is_shade(many, thing):
     return lows <= 100 <= highs
 
 
+def check_shade(many, shade):
+    """Refuse with NoShade what is no SHADE of so many stuffs (NoMany)."""
+    if not is_shade(many, shade):
+        raise NoShade("this is no shade of so many stuffs")
+
+
 def is_stuffs(many, thing):
     """Whether this, of any kind, is STUFFS of so many stuffs."""
     if not is_row_of(many, thing):
@@ -75,8 +88,7 @@ def beyond(bounds, stuff, measures):
 
 def far(many, shade, stuffs):
     """How far STUFFS are from a SHADE, a fraction (NoMany, NoShade, NoStuffs)."""
-    if not is_shade(many, shade):
-        raise NoShade("this is no shade of so many stuffs")
+    check_shade(many, shade)
     if not is_stuffs(many, stuffs):
         raise NoStuffs("these are no measures of so many stuffs")
     measures = total(stuffs)
