@@ -6,7 +6,9 @@ from fractions import Fraction
 
 from tests.things import GREAT, fraction_as_told, things
 from vatmatch.errors import NoNumber
-from vatmatch.fractions import below, fraction, greater, is_fraction, is_whole, minus, over, plus, times, total
+from vatmatch.fractions import (
+    below, fraction, greater, is_fraction, is_whole, minus, over, over_one_bottom, plus, times, total,
+)
 
 NINES = 10 ** 500 - 1
 NUMBERS = [-NINES, -GREAT, -360, -100, -12, -7, -6, -2, -1, 0, 1, 2, 3, 6, 9, 12, 100, 360, 2 ** 70, 3 * 2 ** 1500, GREAT, NINES]
@@ -73,6 +75,10 @@ class Telling(unittest.TestCase):
         self.assertEqual(total(((1, 2), (1, 3), (1, 6))), (1, 1))
         self.assertEqual(greater((1, 3), (1, 2)), (1, 2))
         self.assertEqual(greater((1, 3), (-1, 2)), (1, 3))
+
+    def test_over_one_bottom(self):
+        self.assertEqual(over_one_bottom(((1, 2), (-2, 3), (4, 1))), ([3, -4, 24], 6))
+        self.assertEqual(over_one_bottom(()), ([], 1))
 
     def test_below_just_where_the_first_is_less(self):
         numbers = samples()

@@ -19,6 +19,34 @@ INTERFACE = {
     "books": "is_deed is_book",
     "walks": "fails_at stands_at",
     "tracing": "stuffs_of mix_of where_is shelf_at",
+    "wholes": "by_scale",
+    "houses": "House",
+    "weighings": "bound",
+    "nearest": "nearest",
+}
+
+# The methods of each class of the interface, with their parameters.
+CLASSES = {
+    ("houses", "House"): {
+        "__init__": "many", "enter": "hour deed", "strike": "hour", "right": "hour deed", "back": "", "book": "",
+        "stands": "hour", "cloths": "", "amiss": "", "match": "hour shade measures step", "matches": "",
+    },
+}
+
+# The parameters of each function of the interface that has more than one.
+PARAMETERS = {
+    ("shades", "far"): "many shade stuffs",
+    ("books", "is_deed"): "many thing",
+    ("books", "is_book"): "many thing",
+    ("walks", "fails_at"): "many book",
+    ("walks", "stands_at"): "many book hour",
+    ("tracing", "stuffs_of"): "many book hour name",
+    ("tracing", "mix_of"): "many book hour name",
+    ("tracing", "where_is"): "many book hour lot",
+    ("tracing", "shelf_at"): "many book hour",
+    ("wholes", "by_scale"): "many shelf shade measures step",
+    ("weighings", "bound"): "many shelf shade measures weights",
+    ("nearest", "nearest"): "many shelf shade measures",
 }
 
 BARRED_WORDS = (
@@ -193,13 +221,32 @@ class Objects(unittest.TestCase):
                     self.assertIn(node.attr, known, (path, node.lineno))
 
 
+def defined_in(module):
+    """The functions and classes of a file, by their names."""
+    tree = ast.parse((PACKAGE / (module + ".py")).read_text(encoding="utf-8"))
+    return {node.name: node for node in tree.body if isinstance(node, (ast.FunctionDef, ast.ClassDef))}
+
+
+def parameters_of(node):
+    return [part.arg for part in node.args.args]
+
+
 class Interface(unittest.TestCase):
     def test_each_name_is_defined_in_its_file(self):
         for module, names in INTERFACE.items():
-            tree = ast.parse((PACKAGE / (module + ".py")).read_text(encoding="utf-8"))
-            defined = [node.name for node in tree.body if isinstance(node, (ast.FunctionDef, ast.ClassDef))]
             for name in names.split():
-                self.assertIn(name, defined)
+                self.assertIn(name, defined_in(module))
+
+    def test_each_method_is_defined_in_its_class(self):
+        for (module, name), methods in CLASSES.items():
+            own = defined_in(module)[name]
+            found = {part.name: part for part in own.body if isinstance(part, ast.FunctionDef)}
+            for method, parameters in methods.items():
+                self.assertEqual(parameters_of(found[method]), ["self", *parameters.split()], method)
+
+    def test_parameters_of_functions(self):
+        for (module, name), parameters in PARAMETERS.items():
+            self.assertEqual(parameters_of(defined_in(module)[name]), parameters.split(), name)
 
 
 if __name__ == "__main__":

@@ -5,7 +5,7 @@ import itertools
 import unittest
 from fractions import Fraction
 
-from tests.things import GREAT, NO_MANYS, parts_as_told, put, shade_as_told, stuffs_as_told, things
+from tests.things import GREAT, NO_MANYS, far_as_told, parts_as_told, put, shade_as_told, stuffs_as_told, things
 from vatmatch.errors import NoMany, NoShade, NoStuffs
 from vatmatch.shades import far, is_name, is_parts, is_shade
 
@@ -146,15 +146,6 @@ class Shades(unittest.TestCase):
             self.assertIs(is_shade(many, ((0, 100, 100),) * many), False)
             self.assertIs(is_shade(many, ((False, 100),) + ((0, 100),) * (many - 1)), False)
             self.assertIs(is_shade(many, ((0, 100),) * (many - 1) + ((0, True),)), False)
-
-
-def far_as_told(shade, stuffs):
-    """Point 6, said again with Python's own fractions."""
-    parts = [Fraction(*stuff) for stuff in stuffs]
-    measures = sum(parts)
-    beyond = [max(low * measures - 100 * part, 100 * part - high * measures) for (low, high), part in zip(shade, parts)]
-    greatest = max(0, *beyond)
-    return (greatest.numerator, greatest.denominator)
 
 
 class Far(unittest.TestCase):

@@ -1,6 +1,7 @@
 """Things of any kind, to be handed in where the document says so, and what the tests say of them."""
 
 import math
+from fractions import Fraction
 
 GREAT = 10 ** 499 + 7
 
@@ -88,6 +89,15 @@ def stuffs_as_told(many, thing):
         type(thing) is tuple and len(thing) == many
         and all(fraction_as_told(stuff) and stuff[0] >= 0 for stuff in thing)
     )
+
+
+def far_as_told(shade, stuffs):
+    """Point 6, said again with Python's own fractions."""
+    parts = [Fraction(*stuff) for stuff in stuffs]
+    measures = sum(parts)
+    beyond = [max(low * measures - 100 * part, 100 * part - high * measures) for (low, high), part in zip(shade, parts)]
+    greatest = max(0, *beyond)
+    return (greatest.numerator, greatest.denominator)
 
 
 NO_MANYS = [

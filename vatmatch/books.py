@@ -1,7 +1,7 @@
 """Deeds, and books of them: what is one, told of things of any kind."""
 
 from vatmatch.fractions import is_whole
-from vatmatch.shades import check_many, is_measures, is_name, is_parts, is_row_of, is_shade
+from vatmatch.shades import are_rising, check_many, is_measures, is_name, is_parts, is_row_of, is_shade
 
 MOST_DEEDS = 40
 LAST_HOUR = 9999
@@ -76,6 +76,4 @@ def is_book(many, thing):
     check_many(many)
     if not isinstance(thing, tuple) or len(thing) > MOST_DEEDS:
         return False
-    if not all(is_dated_deed(many, row) for row in thing):
-        return False
-    return all(ahead[0] < behind[0] for ahead, behind in zip(thing, thing[1:]))
+    return all(is_dated_deed(many, row) for row in thing) and are_rising(thing)

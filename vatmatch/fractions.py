@@ -75,3 +75,11 @@ def total(row):
     for one in row:
         together = plus(together, one)
     return together
+
+
+def over_one_bottom(row):
+    """The tops of all fractions of a row, brought over one bottom, and this bottom."""
+    bottom = 1
+    for one in row:
+        bottom *= one[1]
+    return ([one[0] * (bottom // one[1]) for one in row], bottom)

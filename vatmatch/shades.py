@@ -34,6 +34,11 @@ def is_row_of(many, thing):
     return isinstance(thing, tuple) and len(thing) == many
 
 
+def are_rising(rows):
+    """Whether each row begins with more than the one ahead of it does."""
+    return all(ahead[0] < behind[0] for ahead, behind in zip(rows, rows[1:]))
+
+
 def is_parts(many, thing):
     """Whether this, of any kind, is PARTS of so many stuffs (NoMany)."""
     check_many(many)

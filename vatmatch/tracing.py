@@ -1,7 +1,7 @@
 """What lies where at an hour of a book: the stuffs and the mix of a holder, a lot's whereabouts, the shelf."""
 
 from vatmatch.errors import NoName
-from vatmatch.fractions import NOUGHT, common_divisor, over, plus, times
+from vatmatch.fractions import NOUGHT, common_divisor, over, over_one_bottom, plus, times
 from vatmatch.shades import is_name
 from vatmatch.walks import yard_at
 
@@ -24,10 +24,7 @@ def stuffs_in(many, yard, name):
 
 def lowest_parts(stuffs):
     """The whole numbers without a common divisor that are to each other as STUFFS are, all 0 where these are."""
-    bottom = 1
-    for stuff in stuffs:
-        bottom *= stuff[1]
-    tops = [stuff[0] * (bottom // stuff[1]) for stuff in stuffs]
+    tops, bottom = over_one_bottom(stuffs)
     divisor = 0
     for top in tops:
         divisor = common_divisor(top, divisor)
