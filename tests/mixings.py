@@ -1,10 +1,10 @@
-"""Points 12 and 17 said again, and shelves, shades and measures to ask with, right and wrong."""
+"""Points 12 and 23 said again, and shelves, shades and measures to ask with, right and wrong."""
 
 import random
 from fractions import Fraction
 
 from tests.model import between, name_as_told, some_shade
-from tests.things import GREAT, far_as_told, parts_as_told, put, things
+from tests.things import GREAT, far_as_told, parts_as_told, put, shade_as_told, things
 
 GOOD = {
     2: (("blue", 5, (0, 1)), ("red", 7, (2, 1))),
@@ -16,18 +16,41 @@ BAD_SHADES = [None, (), [(0, 100), (0, 100)], ((0, 40), (0, 59)), ((41, 100), (6
 BAD_MEASURES = [0, -1, 10000, GREAT, True, False, None, "1", b"1", (1,), [1], {}, (12, 1), len]
 
 
-def shelf_is_told(many, thing):
-    """Whether this is a SHELF, by point 12."""
-    if type(thing) is not tuple or not 0 < len(thing) < 5:
+def rows_are_told(thing, most, is_third):
+    """Whether this is a tuple of at most so many (NAME, NUMBER, THIRD), NAMEs rising, NUMBERs from 1 to 9999."""
+    if type(thing) is not tuple or len(thing) > most:
         return False
     last = ""
     for row in thing:
         if type(row) is not tuple or len(row) != 3 or not name_as_told(row[0]) or not row[0] > last:
             return False
-        if not between(row[1], 1, 9999) or not parts_as_told(many, row[2]):
+        if not between(row[1], 1, 9999) or not is_third(row[2]):
             return False
         last = row[0]
     return True
+
+
+def shelf_is_told(many, thing):
+    """Whether this is a SHELF, by point 12."""
+    return rows_are_told(thing, 4, lambda parts: parts_as_told(many, parts)) and len(thing) > 0
+
+
+def leavings_are_told(many, thing):
+    """Whether this is LEAVINGS, by point 23."""
+    return rows_are_told(thing, 8, lambda parts: parts_as_told(many, parts))
+
+
+def cloths_are_told(many, thing):
+    """Whether this is CLOTHS, by point 23."""
+    return rows_are_told(thing, 8, lambda shade: shade_as_told(many, shade))
+
+
+def serves_as_told(leaving, cloth):
+    """Whether one of LEAVINGS serves a cloth, by point 23."""
+    if leaving[1] < cloth[1]:
+        return False
+    shares = [Fraction(100 * part, sum(leaving[2])) for part in leaving[2]]
+    return all(low <= share <= high for share, (low, high) in zip(shares, cloth[2]))
 
 
 def bad_shelves(many):

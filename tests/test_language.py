@@ -23,6 +23,9 @@ INTERFACE = {
     "houses": "House",
     "weighings": "bound",
     "nearest": "nearest",
+    "cheapest": "floor_of cheapest",
+    "mending": "more mend",
+    "leavings": "serves",
 }
 
 # The methods of each class of the interface, with their parameters.
@@ -47,6 +50,11 @@ PARAMETERS = {
     ("wholes", "by_scale"): "many shelf shade measures step",
     ("weighings", "bound"): "many shelf shade measures weights",
     ("nearest", "nearest"): "many shelf shade measures",
+    ("cheapest", "floor_of"): "many shelf shade measures prices weights",
+    ("cheapest", "cheapest"): "many shelf shade measures prices",
+    ("mending", "more"): "many vat shelf shade weights",
+    ("mending", "mend"): "many vat shelf shade brim",
+    ("leavings", "serves"): "many leavings cloths",
 }
 
 BARRED_WORDS = (

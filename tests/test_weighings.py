@@ -8,47 +8,9 @@ from fractions import Fraction
 from tests.mixings import BAD_MEASURES, BAD_SHADES, GOOD, SHADES, bad_shelves, far_of_mixing, some_question
 from tests.model import MANYS, told
 from tests.things import GREAT, NO_MANYS, fraction_as_told, put, things
+from tests.weighed import BAD_WEIGHTS, NOUGHTS, bound_as_told, some_mixing, some_weights
 from vatmatch.errors import NoMany, NoMeasures, NoShade, NoShelf, NoWeights, TooLittle
 from vatmatch.weighings import bound
-
-NOUGHTS = {many: ((0, 1),) * many for many in MANYS}
-BAD_WEIGHTS = [
-    None, (), 1, "ab", [(0, 1), (0, 1)], ((0, 1),), ((0, 1),) * 5, (1, 1), ((0, 1), 1), ((2, 4), (0, 1)), ((0, 2), (0, 1)),
-    ((1, 0), (0, 1)), ((1, -1), (0, 1)), ((True, 1), (0, 1)), ((1, True), (0, 1)), ([0, 1], (0, 1)), ((0, 1), None), {},
-]
-
-
-def bound_as_told(shelf, shade, measures, weights):
-    """Point 17, said again: what weighs most goes in first, measure by measure."""
-    weights = [Fraction(*weight) for weight in weights]
-    lowest = measures * sum(min(weight * low, weight * high) for weight, (low, high) in zip(weights, shade))
-    lasting = [(sum(weight * part for weight, part in zip(weights, parts)) / sum(parts), left) for name, left, parts in shelf]
-    greatest = Fraction(0)
-    for worth, left in sorted(lasting)[::-1]:
-        some = min(left, measures)
-        greatest += worth * some
-        measures -= some
-    return told(lowest - 100 * greatest)
-
-
-def some_weights(many, chance):
-    return tuple(told(Fraction(chance.randint(-20, 20), chance.choice((1, 1, 2, 3, 7, 100)))) for stuff in range(many))
-
-
-def some_mixing(shelf, measures, chance):
-    """Amounts of a mixing, taken by chance: the shelf is emptied in a turn by chance, by parts of what is left."""
-    amounts = [Fraction(0)] * len(shelf)
-    missing = Fraction(measures)
-    places = list(range(len(shelf)))
-    chance.shuffle(places)
-    for at in places:
-        amounts[at] = min(Fraction(shelf[at][1]), missing) * Fraction(chance.randint(0, 6), 6)
-        missing -= amounts[at]
-    for at in places:
-        some = min(shelf[at][1] - amounts[at], missing)
-        amounts[at] += some
-        missing -= some
-    return amounts
 
 
 class ByHand(unittest.TestCase):

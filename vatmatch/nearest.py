@@ -27,6 +27,16 @@ def weighing_row(shelf, at):
     return [*above, *under, -every, every, *beyond]
 
 
+def amounts_of(shelf, portions):
+    """The AMOUNTS of a mixing, by the prices of the limits of its weighing rows."""
+    return tuple(times(portion, (sum(parts), 1)) for portion, (name, left, parts) in zip(portions, shelf))
+
+
+def weights_of(many, numbers):
+    """The WEIGHTS, by numbers that begin with those above 0 and the sizes of those below."""
+    return tuple(minus(numbers[stuff], numbers[many + stuff]) for stuff in range(many))
+
+
 def nearest(many, shelf, shade, measures):
     """(FAR, AMOUNTS, WEIGHTS) of a nearest mixing (NoMany, NoShelf, NoShade, NoMeasures, TooLittle).
 
@@ -40,8 +50,5 @@ def nearest(many, shelf, shade, measures):
     limits = [0] * len(shelf) + [1]
     numbers, prices = most_gain(weighing_gains(shelf, shade, measures), [*rows, sizes], limits)
     *portions, distance = prices
-    amounts = tuple(times(portion, (sum(row[2]), 1)) for portion, row in zip(portions, shelf))
-    if distance == NOUGHT:
-        return (distance, amounts, (NOUGHT,) * many)
-    weights = tuple(minus(numbers[stuff], numbers[many + stuff]) for stuff in range(many))
-    return (distance, amounts, weights)
+    weights = (NOUGHT,) * many if distance == NOUGHT else weights_of(many, numbers)
+    return (distance, amounts_of(shelf, portions), weights)
