@@ -116,3 +116,14 @@ def some_question(seed, great=False):
         rows.append((name, chance.choice((1, 2, 5, 7, 12, 24, 100, 9999)), parts))
     shade = some_exact_shade(many, chance) if chance.random() < 0.4 else some_shade(many, chance)
     return many, tuple(rows), shade
+
+
+def some_leavings_and_cloths(many, chance, count):
+    """So many leavings or less, and so many cloths or less, of which some serve some, taken by chance."""
+    kinds = [tuple(chance.randint(0, 4) for stuff in range(many - 1)) + (1,) for kind in range(3)]
+    shades = [((0, 100),) * many, some_shade(many, chance), some_shade(many, chance), some_exact_shade(many, chance)]
+    numbers = (1, 5, 6, 9999)
+    leavings = [(name, chance.choice(numbers), chance.choice(kinds)) for name in "abcdefgh"[:chance.randint(0, count)]]
+    names = sorted(chance.sample(("a", "b", "cloth", "d", "linen", "silk", "wool", "zz", "zzz"), chance.randint(0, count)))
+    cloths = [(name, chance.choice(numbers), chance.choice(shades)) for name in names]
+    return tuple(leavings), tuple(cloths)

@@ -211,6 +211,18 @@ def shelf_as_told(many, book, hour):
     return tuple((name, *mix_as_told(many, book, hour, name)) for name in names)
 
 
+def row_told(hour, deed):
+    """The row of a deed, as the interface lists it."""
+    word, *places = deed
+    if word == "comes":
+        lot, stock, parts, measures = places
+        places = [lot, stock, measures, *parts]
+    if word == "dip":
+        vat, cloth, measures, shade = places
+        places = [vat, cloth, measures, *sum(shade, ())]
+    return " ".join(map(str, [hour, word, *places]))
+
+
 def some_shade(many, chance):
     """A shade, taken by chance."""
     while True:

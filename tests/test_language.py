@@ -26,6 +26,10 @@ INTERFACE = {
     "cheapest": "floor_of cheapest",
     "mending": "more mend",
     "leavings": "serves",
+    "reach": "reached",
+    "checker": "holds",
+    "papers": "paper_near paper_cheap paper_mend paper_served",
+    "desk": "Desk",
 }
 
 # The methods of each class of the interface, with their parameters.
@@ -34,6 +38,7 @@ CLASSES = {
         "__init__": "many", "enter": "hour deed", "strike": "hour", "right": "hour deed", "back": "", "book": "",
         "stands": "hour", "cloths": "", "amiss": "", "match": "hour shade measures step", "matches": "",
     },
+    ("desk", "Desk"): {"__init__": "many", "say": "row"},
 }
 
 # The parameters of each function of the interface that has more than one.
@@ -55,6 +60,12 @@ PARAMETERS = {
     ("mending", "more"): "many vat shelf shade weights",
     ("mending", "mend"): "many vat shelf shade brim",
     ("leavings", "serves"): "many leavings cloths",
+    ("reach", "reached"): "many book hour",
+    ("checker", "holds"): "claim paper",
+    ("papers", "paper_near"): "many shelf shade measures",
+    ("papers", "paper_cheap"): "many shelf shade measures prices",
+    ("papers", "paper_mend"): "many vat shelf shade brim",
+    ("papers", "paper_served"): "many leavings cloths",
 }
 
 BARRED_WORDS = (
@@ -101,6 +112,24 @@ def bound_names(tree):
             yield node.asname or node.name
 
 
+def imports_of_files():
+    """For each file of the package the files from which it imports."""
+    return {
+        path.stem: {node.module.split(".")[1] for node in ast.walk(tree) if isinstance(node, ast.ImportFrom)}
+        for path, tree in trees()
+    }
+
+
+def reached_by_imports(imported, module):
+    """The files from which a file imports, directly or through others."""
+    found, waiting = set(), [module]
+    while waiting:
+        for other in imported[waiting.pop()] - found:
+            found.add(other)
+            waiting.append(other)
+    return found
+
+
 class Files(unittest.TestCase):
     def test_nothing_but_python_files(self):
         for path in PACKAGE.rglob("*"):
@@ -143,6 +172,15 @@ class Code(unittest.TestCase):
                     defined += [t.id for part in source.body if isinstance(part, ast.Assign) for t in part.targets]
                     for alias in node.names:
                         self.assertIn(alias.name, defined, path)
+
+    def test_no_two_files_import_from_each_other(self):
+        imported = imports_of_files()
+        for module in imported:
+            self.assertNotIn(module, reached_by_imports(imported, module))
+
+    def test_the_checker_imports_fractions_and_shades_alone(self):
+        self.assertEqual(imports_of_files()["checker"], {"fractions", "shades"})
+        self.assertEqual(reached_by_imports(imports_of_files(), "checker"), {"fractions", "shades", "errors"})
 
     def test_only_allowed_statements_values_and_builtins(self):
         known = set(BUILTINS)

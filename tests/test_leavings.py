@@ -5,8 +5,10 @@ import functools
 import random
 import unittest
 
-from tests.mixings import BAD_SHADES, SHADES, cloths_are_told, leavings_are_told, serves_as_told, some_exact_shade
-from tests.model import MANYS, some_shade
+from tests.mixings import (
+    BAD_SHADES, SHADES, cloths_are_told, leavings_are_told, serves_as_told, some_leavings_and_cloths,
+)
+from tests.model import MANYS
 from tests.things import GREAT, NO_MANYS, put, things
 from vatmatch.errors import NoCloths, NoMany, NoShelf
 from vatmatch.leavings import serves
@@ -30,16 +32,6 @@ def most_pairs(leavings, cloths):
                 best = max(best, 1 + most(at + 1, left - {place}))
         return best
     return most(0, frozenset(range(len(leavings))))
-
-
-def some_rows(many, chance, count):
-    """So many leavings or less, and so many cloths or less, of which some serve some, taken by chance."""
-    kinds = [tuple(chance.randint(0, 4) for stuff in range(many - 1)) + (1,) for kind in range(3)]
-    shades = [((0, 100),) * many, some_shade(many, chance), some_shade(many, chance), some_exact_shade(many, chance)]
-    leavings = [(name, chance.choice((1, 5, 6, 9999)), chance.choice(kinds)) for name in NAMES[:chance.randint(0, count)]]
-    names = sorted(chance.sample(("a", "b", "cloth", "d", "linen", "silk", "wool", "zz", "zzz"), chance.randint(0, count)))
-    cloths = [(name, chance.choice((1, 5, 6, 9999)), chance.choice(shades)) for name in names]
-    return tuple(leavings), tuple(cloths)
 
 
 class ServesCase(unittest.TestCase):
@@ -137,7 +129,7 @@ class ByChance(ServesCase):
         for seed in range(500):
             chance = random.Random(seed)
             many = chance.choice(MANYS)
-            leavings, cloths = some_rows(many, chance, 5 if seed % 2 else 8)
+            leavings, cloths = some_leavings_and_cloths(many, chance, 5 if seed % 2 else 8)
             count = self.check(many, leavings, cloths)
             self.assertEqual(count, most_pairs(leavings, cloths))
             counts.add(count)
@@ -231,7 +223,7 @@ class Unchanged(unittest.TestCase):
 
     def test_asked_twice_the_same_is_told(self):
         for seed in range(30):
-            leavings, cloths = some_rows(3, random.Random(seed), 8)
+            leavings, cloths = some_leavings_and_cloths(3, random.Random(seed), 8)
             self.assertEqual(serves(3, leavings, cloths), serves(3, leavings, cloths))
 
 

@@ -10,6 +10,26 @@ class Odd:
     """An object of a class that the program knows nothing of."""
 
 
+class Same:
+    """An object that tells of whatever it is compared with that both are the same."""
+
+    def __eq__(self, other):
+        return True
+
+    def __hash__(self):
+        return hash("silk")
+
+
+class Sour:
+    """An object that can't be compared with anything."""
+
+    def __eq__(self, other):
+        raise AssertionError("this was compared")
+
+    __lt__ = __le__ = __gt__ = __ge__ = __ne__ = __eq__
+    __hash__ = None
+
+
 def atoms():
     """Things that are no tuples, made anew at each call."""
     return [

@@ -60,8 +60,8 @@ def find_leaving(servers, cloth_of, tried, cloth):
 def cover_of(servers, cloth_of, unpaired):
     """The COVER, by the cloths for which no leaving was found.
 
-    All that is tried for these is paired, and serves no cloth that would have something else: it covers them. Whatever
-    isn't tried serves only cloths that are paired with such.
+    What is tried for these is paired, each with a cloth for which all that serves it is tried, too: else another cloth
+    could be paired. So whatever isn't tried serves only cloths that are paired with something that isn't tried.
     """
     tried = {}
     for cloth in unpaired:
